@@ -1,0 +1,118 @@
+package ball
+
+import (
+	"math"
+
+	"etalon/api"
+)
+
+// centre is a complex number whose parts are whole numbers. They are exact as floats, being at most 2^53 in size:
+// those of balls are at most 2^26, so those of their products are at most 2^53.
+type centre complex128
+
+func centreAt(x, y int) centre { return centre(complex(float64(x), float64(y))) }
+
+// parts are ints, so that a -0 becomes 0.
+func (c centre) parts() [2]int { return [2]int{int(real(c)), int(imag(c))} }
+
+func (c centre) plus(d centre) centre  { return c + d }
+func (c centre) minus(d centre) centre { return c - d }
+func (c centre) times(d centre) centre { return c * d }
+func (c centre) mirrored() centre      { return centre(complex(real(c), -imag(c))) }
+
+// square returns the square of the size. It is summed up as ints: between two centres it may be above 2^53.
+func (c centre) square() int {
+	sum := 0
+	for _, x := range c.parts() {
+		sum += x * x
+	}
+	return sum
+}
+
+func (c centre) down() int { return rootDown(c.square()) }
+func (c centre) up() int   { return rootUp(c.square()) }
+
+// scaled returns the centre times num, divided by den, rounded, and whether it was whole already.
+func (c centre) scaled(num, den int) (centre, bool) {
+	parts, exact := c.parts(), true
+	for i, x := range parts {
+		var whole bool
+		parts[i], whole = nearest(x, num, den)
+		exact = exact && whole
+	}
+	return centreAt(parts[0], parts[1]), exact
+}
+
+// disc is a checked ball, or the result of an operation ahead of its check.
+type disc struct {
+	centre
+	radius int
+}
+
+// ball returns the disc as a result.
+func (d disc) ball() (api.Ball, api.Errno) {
+	parts := d.parts()
+	if !sized(parts[0], api.MaxBall) || !sized(parts[1], api.MaxBall) || d.radius > api.MaxBall {
+		return api.Ball{}, api.ErrLarge
+	}
+	return api.Ball{Z: complex128(centreAt(parts[0], parts[1])), R: d.radius}, api.OK
+}
+
+// rounded returns a disc whose radius is 1 more if its centre was not exact.
+func rounded(c centre, exact bool, radius int) disc {
+	if !exact {
+		radius++
+	}
+	return disc{c, radius}
+}
+
+// ofOne returns what do makes of a ball, if this is one.
+func ofOne[T any](b api.Ball, do func(b disc) (T, api.Errno)) (T, api.Errno) {
+	if e := CheckBall(b); e != api.OK {
+		var none T
+		return none, e
+	}
+	return do(disc{centre(b.Z), b.R})
+}
+
+// ofTwo returns what do makes of two balls, if both are ones.
+func ofTwo[T any](a, b api.Ball, do func(a, b disc) (T, api.Errno)) (T, api.Errno) {
+	return ofOne(a, func(x disc) (T, api.Errno) {
+		return ofOne(b, func(y disc) (T, api.Errno) { return do(x, y) })
+	})
+}
+
+// checkParts looks at both parts for ErrWhole before it looks at their sizes.
+func checkParts(z complex128, most float64) api.Errno {
+	parts := [2]float64{real(z), imag(z)}
+	for _, x := range parts {
+		if math.IsInf(x, 0) || math.Trunc(x) != x {
+			return api.ErrWhole
+		}
+	}
+	for _, x := range parts {
+		if math.Abs(x) > most {
+			return api.ErrRange
+		}
+	}
+	return api.OK
+}
+
+// checkRange checks a range whose ends may be at most most in size.
+func checkRange(r api.Range, most int) api.Errno {
+	if !sized(r.Lo, most) || !sized(r.Hi, most) {
+		return api.ErrRange
+	}
+	if r.Lo > r.Hi {
+		return api.ErrOrder
+	}
+	return api.OK
+}
+
+// checkFrac checks the parts of a fraction, which need not be in lowest terms.
+func checkFrac(num, den int) api.Errno {
+	if !sized(num, api.MaxPart) || den < 1 || den > api.MaxPart {
+		return api.ErrRange
+	}
+	return api.OK
+}

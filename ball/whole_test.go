@@ -1,0 +1,65 @@
+package ball
+
+import (
+	"math/big"
+	"testing"
+)
+
+// Roots are those of whole numbers, also where floats have no room for all digits.
+func TestRootsOfWholeNumbers(t *testing.T) {
+	check := func(n, down, up int) {
+		if gotDown, gotUp := rootDown(n), rootUp(n); gotDown != down || gotUp != up {
+			t.Errorf("root of %d: %d, %d; want %d, %d", n, gotDown, gotUp, down, up)
+		}
+	}
+	check(0, 0, 0)
+	check(1, 1, 1)
+	around := func(r int) {
+		check(r*r, r, r)
+		check(r*r-1, r-1, r)
+		check((r-1)*(r-1)+1, r-1, r)
+	}
+	for bit := 2; bit <= 30; bit++ {
+		for r := 1<<bit - 2; r <= 1<<bit; r++ {
+			around(r)
+		}
+	}
+	for r := 2; r < 1<<30; r += r/1000 + 1 {
+		around(r)
+	}
+}
+
+// Quotients are rounded down, up, or to the nearest one with halves up, also where the product has more than 64 bits.
+func TestQuotientsOfWholeNumbers(t *testing.T) {
+	for _, x := range []struct {
+		x, y, d              int
+		lower, upper, middle int
+		whole                bool
+	}{
+		{0, 5, 3, 0, 0, 0, true},
+		{6, 1, 3, 2, 2, 2, true},
+		{-6, 1, 3, -2, -2, -2, true},
+		{7, 1, 3, 2, 3, 2, false},
+		{-7, 1, 3, -3, -2, -2, false},
+		{8, 1, 3, 2, 3, 3, false},
+		{-8, 1, 3, -3, -2, -3, false},
+		{1, 1, 2, 0, 1, 1, false},
+		{-1, 1, 2, -1, 0, 0, false},
+		{3, 1, 2, 1, 2, 2, false},
+		{-3, 1, 2, -2, -1, -1, false},
+		{1 << 53, 1 << 20, 1 << 53, 1 << 20, 1 << 20, 1 << 20, true},
+		{1<<53 - 1, 1 << 20, 1 << 53, 1<<20 - 1, 1 << 20, 1 << 20, false},
+		{1 - 1<<53, 1 << 20, 1 << 53, -1 << 20, 1 - 1<<20, -1 << 20, false},
+	} {
+		middle, whole := nearest(x.x, x.y, x.d)
+		if lower(x.x, x.y, x.d) != x.lower || upper(x.x, x.y, x.d) != x.upper || middle != x.middle || whole != x.whole {
+			t.Errorf("%d times %d / %d: %d, %d, %d, %v", x.x, x.y, x.d, lower(x.x, x.y, x.d), upper(x.x, x.y, x.d), middle, whole)
+		}
+		product := new(big.Int).Mul(big.NewInt(int64(x.x)), big.NewInt(int64(x.y)))
+		down, rest := new(big.Int).DivMod(product, big.NewInt(int64(x.d)), new(big.Int))
+		quotient, left := divided(x.x, x.y, x.d)
+		if down.Int64() != int64(quotient) || rest.Int64() != int64(left) {
+			t.Errorf("%d times %d / %d: %d and %d left", x.x, x.y, x.d, quotient, left)
+		}
+	}
+}
