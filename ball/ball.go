@@ -1,7 +1,10 @@
 // Package ball is chapter 1: complex numbers with radii. See shared/doc/01-ball.md.
 package ball
 
-import "etalon/api"
+import (
+	"etalon/api"
+	"etalon/whole"
+)
 
 // CheckBall returns the first error of a ball.
 func CheckBall(b api.Ball) api.Errno {
@@ -19,7 +22,7 @@ func OfRange(r api.Range) (api.Ball, api.Errno) {
 	if e := checkRange(r, api.MaxBall); e != api.OK {
 		return api.Ball{}, e
 	}
-	middle := lower(r.Lo+r.Hi, 1, 2)
+	middle := whole.Lower(r.Lo+r.Hi, 1, 2)
 	return disc{centreAt(middle, 0), r.Hi - middle}.ball()
 }
 
@@ -56,7 +59,7 @@ func Conj(b api.Ball) (api.Ball, api.Errno) {
 // Turned returns the ball turned by quarters of a turn.
 func Turned(b api.Ball, quarters int) (api.Ball, api.Errno) {
 	return ofOne(b, func(b disc) (api.Ball, api.Errno) {
-		if !sized(quarters, api.MaxPart) {
+		if !whole.Sized(quarters, api.MaxPart) {
 			return api.Ball{}, api.ErrRange
 		}
 		powers := [4]centre{1, 1i, -1, -1i}
@@ -70,7 +73,7 @@ func Times(a, b api.Ball) (api.Ball, api.Errno) {
 	return ofTwo(a, b, func(a, b disc) (api.Ball, api.Errno) {
 		c, exact := a.times(b.centre).scaled(1, api.One)
 		spread := a.up()*b.radius + b.up()*a.radius + a.radius*b.radius
-		return rounded(c, exact, upper(spread, 1, api.One)).ball()
+		return rounded(c, exact, whole.Upper(spread, 1, api.One)).ball()
 	})
 }
 
@@ -83,6 +86,6 @@ func Quotient(a, b api.Ball) (api.Ball, api.Errno) {
 		}
 		c, exact := a.times(b.mirrored()).scaled(api.One, b.square())
 		spread := a.radius*b.up() + a.up()*b.radius
-		return rounded(c, exact, upper(spread, api.One, least*b.down())).ball()
+		return rounded(c, exact, whole.Upper(spread, api.One, least*b.down())).ball()
 	})
 }

@@ -4,6 +4,7 @@ import (
 	"math"
 
 	"etalon/api"
+	"etalon/whole"
 )
 
 // centre is a complex number whose parts are whole numbers. They are exact as floats, being at most 2^53 in size:
@@ -29,16 +30,16 @@ func (c centre) square() int {
 	return sum
 }
 
-func (c centre) down() int { return rootDown(c.square()) }
-func (c centre) up() int   { return rootUp(c.square()) }
+func (c centre) down() int { return whole.RootDown(c.square()) }
+func (c centre) up() int   { return whole.RootUp(c.square()) }
 
 // scaled returns the centre times num, divided by den, rounded, and whether it was whole already.
 func (c centre) scaled(num, den int) (centre, bool) {
 	parts, exact := c.parts(), true
 	for i, x := range parts {
-		var whole bool
-		parts[i], whole = nearest(x, num, den)
-		exact = exact && whole
+		var same bool
+		parts[i], same = whole.Nearest(x, num, den)
+		exact = exact && same
 	}
 	return centreAt(parts[0], parts[1]), exact
 }
@@ -52,7 +53,7 @@ type disc struct {
 // ball returns the disc as a result.
 func (d disc) ball() (api.Ball, api.Errno) {
 	parts := d.parts()
-	if !sized(parts[0], api.MaxBall) || !sized(parts[1], api.MaxBall) || d.radius > api.MaxBall {
+	if !whole.Sized(parts[0], api.MaxBall) || !whole.Sized(parts[1], api.MaxBall) || d.radius > api.MaxBall {
 		return api.Ball{}, api.ErrLarge
 	}
 	return api.Ball{Z: complex128(centreAt(parts[0], parts[1])), R: d.radius}, api.OK
@@ -100,7 +101,7 @@ func checkParts(z complex128, most float64) api.Errno {
 
 // checkRange checks a range whose ends may be at most most in size.
 func checkRange(r api.Range, most int) api.Errno {
-	if !sized(r.Lo, most) || !sized(r.Hi, most) {
+	if !whole.Sized(r.Lo, most) || !whole.Sized(r.Hi, most) {
 		return api.ErrRange
 	}
 	if r.Lo > r.Hi {
@@ -111,7 +112,7 @@ func checkRange(r api.Range, most int) api.Errno {
 
 // checkFrac checks the parts of a fraction, which need not be in lowest terms.
 func checkFrac(num, den int) api.Errno {
-	if !sized(num, api.MaxPart) || den < 1 || den > api.MaxPart {
+	if !whole.Sized(num, api.MaxPart) || den < 1 || den > api.MaxPart {
 		return api.ErrRange
 	}
 	return api.OK

@@ -1,6 +1,9 @@
 package ball
 
-import "etalon/api"
+import (
+	"etalon/api"
+	"etalon/whole"
+)
 
 // fadeOne stands for 1 in fadings: they are found in parts of 2^30 and told in parts of One.
 const fadeOne = 1 << 30
@@ -26,24 +29,24 @@ func halvings(x int) int {
 
 // fadingUp returns an upper bound of what fades by so many parts (from 0 to MostFade).
 func fadingUp(parts int) int {
-	x := lower(256*parts, twoPiDown, twoPiDen)
+	x := whole.Lower(256*parts, twoPiDown, twoPiDen)
 	k := halvings(x)
-	u := lower(x, 1, 1<<k)
-	f := fadeOne - u + upper(u, u, 2*fadeOne)
+	u := whole.Lower(x, 1, 1<<k)
+	f := fadeOne - u + whole.Upper(u, u, 2*fadeOne)
 	for range k {
-		f = upper(f, f, fadeOne)
+		f = whole.Upper(f, f, fadeOne)
 	}
 	return f
 }
 
 // fadingDown returns a lower bound of what fades by so many parts (from 0 to MostFade).
 func fadingDown(parts int) int {
-	x := upper(256*parts, twoPiUp, twoPiDen)
+	x := whole.Upper(256*parts, twoPiUp, twoPiDen)
 	k := halvings(x)
-	u := upper(x, 1, 1<<k)
-	f := fadeOne - u + lower(u, u, 2*fadeOne) - upper(u*u, u, 6*fadeOne*fadeOne)
+	u := whole.Upper(x, 1, 1<<k)
+	f := fadeOne - u + whole.Lower(u, u, 2*fadeOne) - whole.Upper(u*u, u, 6*fadeOne*fadeOne)
 	for range k {
-		f = lower(f, f, fadeOne)
+		f = whole.Lower(f, f, fadeOne)
 	}
 	return f
 }
@@ -58,10 +61,10 @@ func Fading(r api.Range) (api.Range, api.Errno) {
 	}
 	told := api.Range{Lo: 0, Hi: 1}
 	if r.Hi <= api.MostFade {
-		told.Lo = max(lower(fadingDown(r.Hi), api.One, fadeOne), 0)
+		told.Lo = max(whole.Lower(fadingDown(r.Hi), api.One, fadeOne), 0)
 	}
 	if r.Lo <= api.MostFade {
-		told.Hi = min(upper(fadingUp(r.Lo), api.One, fadeOne), api.One)
+		told.Hi = min(whole.Upper(fadingUp(r.Lo), api.One, fadeOne), api.One)
 	}
 	return told, api.OK
 }

@@ -1,6 +1,9 @@
 package ball
 
-import "etalon/api"
+import (
+	"etalon/api"
+	"etalon/whole"
+)
 
 // sizes returns the enclosure of the sizes of the numbers of a disc.
 func (d disc) sizes() api.Range {
@@ -16,7 +19,7 @@ func SizeOf(b api.Ball) (api.Range, api.Errno) {
 func Energy(b api.Ball) (api.Range, api.Errno) {
 	return ofOne(b, func(b disc) (api.Range, api.Errno) {
 		s := b.sizes()
-		return api.Range{Lo: lower(s.Lo, s.Lo, api.One), Hi: upper(s.Hi, s.Hi, api.One)}, api.OK
+		return api.Range{Lo: whole.Lower(s.Lo, s.Lo, api.One), Hi: whole.Upper(s.Hi, s.Hi, api.One)}, api.OK
 	})
 }
 

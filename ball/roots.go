@@ -1,6 +1,9 @@
 package ball
 
-import "etalon/api"
+import (
+	"etalon/api"
+	"etalon/whole"
+)
 
 // Root returns the root with a real part that is not negative.
 func Root(b api.Ball) (api.Ball, api.Errno) {
@@ -9,7 +12,7 @@ func Root(b api.Ball) (api.Ball, api.Errno) {
 			return api.Ball{}, api.ErrZero
 		}
 		parts := b.parts()
-		if parts[0] < 0 && sized(parts[1], b.radius) && b.radius != 0 {
+		if parts[0] < 0 && whole.Sized(parts[1], b.radius) && b.radius != 0 {
 			return api.Ball{}, api.ErrClash
 		}
 		return b.root().ball()
@@ -21,12 +24,12 @@ func Root(b api.Ball) (api.Ball, api.Errno) {
 func (d disc) root() disc {
 	size, parts := d.down(), d.parts()
 	x, y := parts[0], parts[1]
-	greater := rootDown((size + max(x, -x)) * (api.One / 2))
+	greater := whole.RootDown((size + max(x, -x)) * (api.One / 2))
 	lesser := func(y int) int {
-		part, _ := nearest(y, api.One, 2*greater)
+		part, _ := whole.Nearest(y, api.One, 2*greater)
 		return part
 	}
-	radius := upper(d.radius, api.One, rootDown(size*api.One)) + 3 + upper(api.One, 1, greater)
+	radius := whole.Upper(d.radius, api.One, whole.RootDown(size*api.One)) + 3 + whole.Upper(api.One, 1, greater)
 	switch {
 	case x >= 0:
 		return disc{centreAt(greater, lesser(y)), radius}
@@ -43,7 +46,7 @@ func RealRoot(r api.Range) (api.Ball, api.Errno) {
 	}
 	switch {
 	case r.Lo >= 0:
-		return OfRange(api.Range{Lo: rootDown(r.Lo * api.One), Hi: rootUp(r.Hi * api.One)})
+		return OfRange(api.Range{Lo: whole.RootDown(r.Lo * api.One), Hi: whole.RootUp(r.Hi * api.One)})
 	case r.Hi <= 0:
 		b, e := RealRoot(api.Range{Lo: -r.Hi, Hi: -r.Lo})
 		if e != api.OK {

@@ -5,18 +5,19 @@ import (
 	"strings"
 
 	"etalon/api"
+	"etalon/text"
 )
 
-// mostNumber is the greatest number of 9 digits.
-const mostNumber = 999999999
+// mostDigits is how many digits the numbers of a text may have.
+const mostDigits = 9
 
 // Format returns the text of a ball, "" of what is none.
 func Format(b api.Ball) string {
-	text, _ := ofOne(b, func(b disc) (string, api.Errno) {
+	s, _ := ofOne(b, func(b disc) (string, api.Errno) {
 		parts := b.parts()
 		return strconv.Itoa(parts[0]) + " " + strconv.Itoa(parts[1]) + " " + strconv.Itoa(b.radius), api.OK
 	})
-	return text
+	return s
 }
 
 // Parse returns the ball with this text.
@@ -28,7 +29,7 @@ func Parse(s string) (api.Ball, api.Errno) {
 	}
 	var numbers [3]int
 	for i, word := range words {
-		n, ok := number(word)
+		n, ok := text.Number(word, mostDigits)
 		if !ok {
 			return api.Ball{}, api.ErrSyntax
 		}
@@ -39,14 +40,4 @@ func Parse(s string) (api.Ball, api.Errno) {
 		return api.Ball{}, e
 	}
 	return b, api.OK
-}
-
-// number reads a number of at most 9 digits. Only the text that a number is written as stands for it:
-// this rules out a plus sign, leading zeros and "-0".
-func number(s string) (int, bool) {
-	n, err := strconv.Atoi(s)
-	if err != nil || !sized(n, mostNumber) || strconv.Itoa(n) != s {
-		return 0, false
-	}
-	return n, true
 }

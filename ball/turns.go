@@ -1,6 +1,9 @@
 package ball
 
-import "etalon/api"
+import (
+	"etalon/api"
+	"etalon/whole"
+)
 
 // Parts of turns.
 const (
@@ -50,7 +53,7 @@ func halved(m int) centre {
 func bisector(from, to centre) centre {
 	sum := from.plus(to)
 	size, parts := sum.down(), sum.parts()
-	return centreAt(lower(parts[0], api.MaxBall, size), lower(parts[1], api.MaxBall, size))
+	return centreAt(whole.Lower(parts[0], api.MaxBall, size), whole.Lower(parts[1], api.MaxBall, size))
 }
 
 // Arc returns the ball of an arc.
@@ -63,9 +66,9 @@ func Arc(r api.Range) (api.Ball, api.Errno) {
 
 // arc is Arc without a limit of parts: those of Unit may be beyond MostParts.
 func arc(r api.Range) (api.Ball, api.Errno) {
-	middle := lower(r.Lo+r.Hi, 1, 2)
+	middle := whole.Lower(r.Lo+r.Hi, 1, 2)
 	c, _ := direction(middle).scaled(1, api.MaxBall/api.One)
-	radius := 2 + upper(r.Hi-middle, 11, 7)
+	radius := 2 + whole.Upper(r.Hi-middle, 11, 7)
 	if r.Lo == r.Hi && r.Lo%quarterTurn == 0 {
 		radius = 0
 	}
@@ -77,5 +80,5 @@ func Unit(num, den int) (api.Ball, api.Errno) {
 	if e := checkFrac(num, den); e != api.OK {
 		return api.Ball{}, e
 	}
-	return arc(api.Range{Lo: lower(num, api.TurnParts, den), Hi: upper(num, api.TurnParts, den)})
+	return arc(api.Range{Lo: whole.Lower(num, api.TurnParts, den), Hi: whole.Upper(num, api.TurnParts, den)})
 }

@@ -1,14 +1,29 @@
-package ball
+package whole
 
 import (
+	"math"
 	"math/big"
 	"testing"
 )
 
+// Bounds are included; the least int has no size.
+func TestBounds(t *testing.T) {
+	for n, want := range map[int]bool{math.MinInt: false, -3: false, -2: true, 0: true, 5: true, 6: false, math.MaxInt: false} {
+		if Within(n, -2, 5) != want {
+			t.Errorf("%d from -2 to 5: %v", n, !want)
+		}
+	}
+	for n, want := range map[int]bool{math.MinInt: false, -3: false, -2: true, 0: true, 2: true, 3: false, math.MaxInt: false} {
+		if Sized(n, 2) != want {
+			t.Errorf("%d to 2 in size: %v", n, !want)
+		}
+	}
+}
+
 // Roots are those of whole numbers, also where floats have no room for all digits.
 func TestRootsOfWholeNumbers(t *testing.T) {
 	check := func(n, down, up int) {
-		if gotDown, gotUp := rootDown(n), rootUp(n); gotDown != down || gotUp != up {
+		if gotDown, gotUp := RootDown(n), RootUp(n); gotDown != down || gotUp != up {
 			t.Errorf("root of %d: %d, %d; want %d, %d", n, gotDown, gotUp, down, up)
 		}
 	}
@@ -51,9 +66,9 @@ func TestQuotientsOfWholeNumbers(t *testing.T) {
 		{1<<53 - 1, 1 << 20, 1 << 53, 1<<20 - 1, 1 << 20, 1 << 20, false},
 		{1 - 1<<53, 1 << 20, 1 << 53, -1 << 20, 1 - 1<<20, -1 << 20, false},
 	} {
-		middle, whole := nearest(x.x, x.y, x.d)
-		if lower(x.x, x.y, x.d) != x.lower || upper(x.x, x.y, x.d) != x.upper || middle != x.middle || whole != x.whole {
-			t.Errorf("%d times %d / %d: %d, %d, %d, %v", x.x, x.y, x.d, lower(x.x, x.y, x.d), upper(x.x, x.y, x.d), middle, whole)
+		middle, whole := Nearest(x.x, x.y, x.d)
+		if Lower(x.x, x.y, x.d) != x.lower || Upper(x.x, x.y, x.d) != x.upper || middle != x.middle || whole != x.whole {
+			t.Errorf("%d times %d / %d: %d, %d, %d, %v", x.x, x.y, x.d, Lower(x.x, x.y, x.d), Upper(x.x, x.y, x.d), middle, whole)
 		}
 		product := new(big.Int).Mul(big.NewInt(int64(x.x)), big.NewInt(int64(x.y)))
 		down, rest := new(big.Int).DivMod(product, big.NewInt(int64(x.d)), new(big.Int))
