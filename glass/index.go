@@ -3,6 +3,7 @@ package glass
 import (
 	"etalon/api"
 	"etalon/ball"
+	"etalon/frac"
 	"etalon/whole"
 )
 
@@ -117,5 +118,5 @@ func Abbe(g api.Glass) (api.Frac, api.Errno) {
 	if index[1] == index[2] {
 		return api.Frac{}, api.ErrZero
 	}
-	return lowest(index[0]-api.IndexOne, index[1]-index[2]), api.OK
+	return frac.Lowest(index[0]-api.IndexOne, index[1]-index[2]), api.OK
 }

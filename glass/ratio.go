@@ -22,16 +22,3 @@ func (r ratio) span() api.Range {
 func hull(a, b api.Range) api.Range {
 	return api.Range{Lo: min(a.Lo, b.Lo), Hi: max(a.Hi, b.Hi)}
 }
-
-// lowest returns num / den (other than 0) in lowest terms.
-func lowest(num, den int) api.Frac {
-	divisor := den
-	for rest := num; rest != 0; {
-		divisor, rest = rest, divisor%rest
-	}
-	// The divisor may have either sign: that of den makes the new denominator one above 0.
-	if (divisor < 0) != (den < 0) {
-		divisor = -divisor
-	}
-	return api.Frac{Num: num / divisor, Den: den / divisor}
-}
