@@ -8,7 +8,7 @@ import (
 
 // CheckBall returns the first error of a ball.
 func CheckBall(b api.Ball) api.Errno {
-	if e := checkParts(b.Z, api.MaxBall); e != api.OK {
+	if e := whole.CheckParts(b.Z, api.MaxBall); e != api.OK {
 		return e
 	}
 	if b.R < 0 || b.R > api.MaxBall {

@@ -1,8 +1,6 @@
 package ball
 
 import (
-	"math"
-
 	"etalon/api"
 	"etalon/whole"
 )
@@ -11,10 +9,9 @@ import (
 // those of balls are at most 2^26, so those of their products are at most 2^53.
 type centre complex128
 
-func centreAt(x, y int) centre { return centre(complex(float64(x), float64(y))) }
+func centreAt(x, y int) centre { return centre(whole.Complex(x, y)) }
 
-// parts are ints, so that a -0 becomes 0.
-func (c centre) parts() [2]int { return [2]int{int(real(c)), int(imag(c))} }
+func (c centre) parts() [2]int { return whole.Parts(complex128(c)) }
 
 func (c centre) plus(d centre) centre  { return c + d }
 func (c centre) minus(d centre) centre { return c - d }
@@ -81,22 +78,6 @@ func ofTwo[T any](a, b api.Ball, do func(a, b disc) (T, api.Errno)) (T, api.Errn
 	return ofOne(a, func(x disc) (T, api.Errno) {
 		return ofOne(b, func(y disc) (T, api.Errno) { return do(x, y) })
 	})
-}
-
-// checkParts looks at both parts for ErrWhole before it looks at their sizes.
-func checkParts(z complex128, most float64) api.Errno {
-	parts := [2]float64{real(z), imag(z)}
-	for _, x := range parts {
-		if math.IsInf(x, 0) || math.Trunc(x) != x {
-			return api.ErrWhole
-		}
-	}
-	for _, x := range parts {
-		if math.Abs(x) > most {
-			return api.ErrRange
-		}
-	}
-	return api.OK
 }
 
 // checkRange checks a range whose ends may be at most most in size.

@@ -42,7 +42,7 @@ func (c centre) near(d centre, far int) bool {
 // Contains returns whether a number is in a ball.
 func Contains(b api.Ball, z complex128) (bool, api.Errno) {
 	return ofOne(b, func(b disc) (bool, api.Errno) {
-		if e := checkParts(z, 2*api.MaxBall); e != api.OK {
+		if e := whole.CheckParts(z, 2*api.MaxBall); e != api.OK {
 			return false, e
 		}
 		return b.near(centre(z), b.radius), api.OK

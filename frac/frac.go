@@ -8,29 +8,16 @@ import (
 
 // Lowest returns num / den (den other than 0) in lowest terms.
 func Lowest(num, den int) api.Frac {
-	d := divisor(num, den)
-	// The divisor may have either sign: that of den makes the new denominator one above 0.
-	if (d < 0) != (den < 0) {
+	d := whole.Divisor(num, den)
+	if den < 0 {
 		d = -d
 	}
 	return api.Frac{Num: num / d, Den: den / d}
 }
 
-// divisor returns the greatest common divisor of two numbers that are not both 0, with either sign.
-func divisor(a, b int) int {
-	for a != 0 {
-		a, b = b%a, a
-	}
-	return b
-}
-
 // IsLowest says whether a fraction, of any numbers, is in lowest terms with a denominator above 0.
 func IsLowest(f api.Frac) bool {
-	if f.Den <= 0 {
-		return false
-	}
-	d := divisor(f.Num, f.Den)
-	return d == 1 || d == -1
+	return f.Den > 0 && whole.Divisor(f.Num, f.Den) == 1
 }
 
 // Sized says whether both numbers of a fraction are at most most in size.

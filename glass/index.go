@@ -77,7 +77,7 @@ func Permittivity(g api.Glass, wave int) (api.Ball, api.Errno) {
 	const scale = api.IndexOne * api.IndexOne
 	x, xSame := whole.Nearest(index*index-loss*loss, api.One, scale)
 	y, ySame := whole.Nearest(2*index*loss, api.One, scale)
-	b := api.Ball{Z: complex(float64(x), float64(y))}
+	b := api.Ball{Z: whole.Complex(x, y)}
 	if !xSame || !ySame {
 		b.R = 1
 	}

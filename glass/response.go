@@ -153,13 +153,14 @@ func multiple(b api.Ball, many int) (api.Ball, api.Errno) {
 
 // part returns a ball divided by n.
 func part(b api.Ball, n int) api.Ball {
-	x, xSame := whole.Nearest(int(real(b.Z)), 1, n)
-	y, ySame := whole.Nearest(int(imag(b.Z)), 1, n)
+	parts := whole.Parts(b.Z)
+	x, xSame := whole.Nearest(parts[0], 1, n)
+	y, ySame := whole.Nearest(parts[1], 1, n)
 	radius := whole.Upper(b.R, 1, n)
 	if !xSame || !ySame {
 		radius++
 	}
-	return api.Ball{Z: complex(float64(x), float64(y)), R: radius}
+	return api.Ball{Z: whole.Complex(x, y), R: radius}
 }
 
 // has0 says whether a ball has the number 0.

@@ -1,7 +1,6 @@
 package glass
 
 import (
-	"math"
 	"strconv"
 
 	"etalon/api"
@@ -35,7 +34,7 @@ func (t table) checkRow(row int) api.Errno {
 	switch {
 	case !whole.Within(t.Waves[row], api.LeastWave, api.MaxWave):
 		return api.ErrRange
-	case !isWhole(index) || !isWhole(loss):
+	case !whole.IsWhole(float64(index)) || !whole.IsWhole(float64(loss)):
 		return api.ErrWhole
 	case index < api.LeastIndex || index > api.MaxIndex || loss < 0 || loss > api.MaxIndex:
 		return api.ErrRange
@@ -43,12 +42,6 @@ func (t table) checkRow(row int) api.Errno {
 		return api.ErrOrder
 	}
 	return api.OK
-}
-
-// isWhole says whether a float is a whole number. An infinity is its own whole part, a NaN is not even itself.
-func isWhole(x float32) bool {
-	f := float64(x)
-	return !math.IsInf(f, 0) && math.Trunc(f) == f
 }
 
 func (t table) covers(wave int) bool {

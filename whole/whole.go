@@ -1,4 +1,5 @@
-// Package whole calculates with whole numbers: quotients and roots that are rounded, and sizes. Several chapters use it.
+// Package whole calculates with whole numbers: quotients and roots that are rounded, divisors, sizes, and floats that
+// hold whole numbers. Several chapters use it.
 package whole
 
 import (
@@ -68,6 +69,18 @@ func RootUp(n int) int {
 		root++
 	}
 	return root
+}
+
+// Divisor returns the greatest common divisor of numbers, 0 if all are 0. It is above 0 otherwise, unless the least int
+// is the only one that is not 0.
+func Divisor(numbers ...int) int {
+	d := 0
+	for _, n := range numbers {
+		for n != 0 {
+			d, n = n, d%n
+		}
+	}
+	return max(d, -d)
 }
 
 // Within says whether n is from least to most.

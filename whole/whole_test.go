@@ -78,3 +78,20 @@ func TestQuotientsOfWholeNumbers(t *testing.T) {
 		}
 	}
 }
+
+// Divisors are above 0, of any numbers of either sign.
+func TestDivisor(t *testing.T) {
+	for _, x := range []struct {
+		want    int
+		numbers []int
+	}{
+		{0, nil}, {0, []int{0}}, {0, []int{0, 0}}, {7, []int{7}}, {7, []int{-7}}, {7, []int{0, -7, 0}}, {1, []int{-1, 0}},
+		{6, []int{12, 18}}, {6, []int{-12, 18}}, {6, []int{12, -18}}, {6, []int{-18, -12}}, {1, []int{6, 10, 15}}, {2, []int{6, 10, 0, 14}},
+		{math.MaxInt, []int{math.MaxInt, math.MaxInt}}, {1, []int{math.MaxInt, math.MinInt}}, {2, []int{math.MinInt, 6}},
+		{1 << 62, []int{math.MinInt, 1 << 62}},
+	} {
+		if got := Divisor(x.numbers...); got != x.want {
+			t.Errorf("%v: %d; want %d", x.numbers, got, x.want)
+		}
+	}
+}
