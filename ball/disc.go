@@ -80,17 +80,6 @@ func ofTwo[T any](a, b api.Ball, do func(a, b disc) (T, api.Errno)) (T, api.Errn
 	})
 }
 
-// checkRange checks a range whose ends may be at most most in size.
-func checkRange(r api.Range, most int) api.Errno {
-	if !whole.Sized(r.Lo, most) || !whole.Sized(r.Hi, most) {
-		return api.ErrRange
-	}
-	if r.Lo > r.Hi {
-		return api.ErrOrder
-	}
-	return api.OK
-}
-
 // checkFrac checks the parts of a fraction, which need not be in lowest terms.
 func checkFrac(num, den int) api.Errno {
 	if !whole.Sized(num, api.MaxPart) || den < 1 || den > api.MaxPart {

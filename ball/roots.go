@@ -2,6 +2,7 @@ package ball
 
 import (
 	"etalon/api"
+	"etalon/span"
 	"etalon/whole"
 )
 
@@ -41,7 +42,7 @@ func (d disc) root() disc {
 
 // RealRoot returns the ball of the roots of the real numbers of a range.
 func RealRoot(r api.Range) (api.Ball, api.Errno) {
-	if e := checkRange(r, api.MaxBall); e != api.OK {
+	if e := span.Check(r, api.MaxBall); e != api.OK {
 		return api.Ball{}, e
 	}
 	switch {

@@ -24,18 +24,11 @@ func Format(b api.Ball) string {
 func Parse(s string) (api.Ball, api.Errno) {
 	// One more than three words is enough to see that there are too many.
 	words := strings.SplitN(s, " ", 4)
-	if len(words) != 3 {
+	var x, y, r int
+	if !text.Numbers(words, mostDigits, &x, &y, &r) {
 		return api.Ball{}, api.ErrSyntax
 	}
-	var numbers [3]int
-	for i, word := range words {
-		n, ok := text.Number(word, mostDigits)
-		if !ok {
-			return api.Ball{}, api.ErrSyntax
-		}
-		numbers[i] = n
-	}
-	b := api.Ball{Z: complex128(centreAt(numbers[0], numbers[1])), R: numbers[2]}
+	b := api.Ball{Z: complex128(centreAt(x, y)), R: r}
 	if e := CheckBall(b); e != api.OK {
 		return api.Ball{}, e
 	}

@@ -86,11 +86,8 @@ func readDemand(s string) (api.BandDemand, bool) {
 		return api.BandDemand{}, false
 	}
 	d := api.BandDemand{Share: slices.Index(shareWords(), words[0]), Polar: slices.Index(polarWords(), words[1])}
-	for i, n := range numbers(&d) {
-		var ok bool
-		if *n, ok = text.Number(words[2+i], mostDigits); !ok {
-			return api.BandDemand{}, false
-		}
+	if !text.Numbers(words[2:], mostDigits, numbers(&d)...) {
+		return api.BandDemand{}, false
 	}
 	return d, hasKinds(d)
 }

@@ -4,6 +4,7 @@ import (
 	"etalon/api"
 	"etalon/ball"
 	"etalon/frac"
+	"etalon/span"
 	"etalon/whole"
 )
 
@@ -42,7 +43,7 @@ func Between(g api.Glass, waves api.Range) ([2]api.Range, api.Errno) {
 	}
 	widen := func(wave int) {
 		for i, x := range m.told(wave) {
-			both[i] = hull(both[i], x.span())
+			both[i] = span.Hull(both[i], x.span())
 		}
 	}
 	widen(waves.Hi)

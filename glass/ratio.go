@@ -2,6 +2,7 @@ package glass
 
 import (
 	"etalon/api"
+	"etalon/span"
 	"etalon/whole"
 )
 
@@ -15,10 +16,5 @@ func (r ratio) nearest() int {
 
 // span returns the number rounded down, and rounded up.
 func (r ratio) span() api.Range {
-	return api.Range{Lo: whole.Lower(r.num, 1, r.den), Hi: whole.Upper(r.num, 1, r.den)}
-}
-
-// hull returns the least range that has both.
-func hull(a, b api.Range) api.Range {
-	return api.Range{Lo: min(a.Lo, b.Lo), Hi: max(a.Hi, b.Hi)}
+	return span.Quotient(r.num, r.den)
 }

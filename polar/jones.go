@@ -1,6 +1,9 @@
 package polar
 
-import "etalon/api"
+import (
+	"etalon/api"
+	"etalon/errs"
+)
 
 // CheckVector returns the first error of a wave.
 func CheckVector(v api.JonesVector) api.Errno { return checkNumbers(api.MaxJones, v.X, v.Y) }
@@ -19,7 +22,7 @@ func StokesOf(v api.JonesVector) (api.Stokes, api.Errno) {
 
 // Passed returns a Jones matrix times a wave.
 func Passed(m api.JonesMatrix, v api.JonesVector) (api.JonesVector, api.Errno) {
-	if e := firstOf(CheckJones(m), CheckVector(v)); e != api.OK {
+	if e := errs.First(CheckJones(m), CheckVector(v)); e != api.OK {
 		return api.JonesVector{}, e
 	}
 	return resultingWave(api.JonesVector{X: m[0]*v.X + m[1]*v.Y, Y: m[2]*v.X + m[3]*v.Y})
@@ -27,7 +30,7 @@ func Passed(m api.JonesMatrix, v api.JonesVector) (api.JonesVector, api.Errno) {
 
 // Chained returns the product of two Jones matrices.
 func Chained(a, b api.JonesMatrix) (api.JonesMatrix, api.Errno) {
-	if e := firstOf(CheckJones(a), CheckJones(b)); e != api.OK {
+	if e := errs.First(CheckJones(a), CheckJones(b)); e != api.OK {
 		return api.JonesMatrix{}, e
 	}
 	return resultingMatrix(product(a, b))

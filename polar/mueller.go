@@ -2,6 +2,7 @@ package polar
 
 import (
 	"etalon/api"
+	"etalon/errs"
 	"etalon/whole"
 )
 
@@ -68,7 +69,7 @@ func basis() [4]api.JonesMatrix {
 
 // Through returns a Mueller matrix times a Stokes vector.
 func Through(m api.Mueller, s api.Stokes) (api.Stokes, api.Errno) {
-	if e := firstOf(CheckMueller(m), CheckStokes(s)); e != api.OK {
+	if e := errs.First(CheckMueller(m), CheckStokes(s)); e != api.OK {
 		return api.Stokes{}, e
 	}
 	out := through(m, s)
@@ -89,7 +90,7 @@ func through(m api.Mueller, s [4]int) [4]int {
 
 // Joined returns the product of two Mueller matrices.
 func Joined(a, b api.Mueller) (api.Mueller, api.Errno) {
-	if e := firstOf(CheckMueller(a), CheckMueller(b)); e != api.OK {
+	if e := errs.First(CheckMueller(a), CheckMueller(b)); e != api.OK {
 		return api.Mueller{}, e
 	}
 	var m api.Mueller

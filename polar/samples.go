@@ -2,6 +2,7 @@ package polar
 
 import (
 	"etalon/api"
+	"etalon/errs"
 	"etalon/whole"
 )
 
@@ -58,7 +59,7 @@ func Witness(m api.Mueller) ([4]complex128, int, api.Errno) {
 
 // CheckWitness accepts a witness against a Mueller matrix, and returns its value.
 func CheckWitness(m api.Mueller, v [4]complex128) (int, api.Errno) {
-	if e := firstOf(checkTested(m), checkNumbers(api.MaxWitness, v[:]...)); e != api.OK {
+	if e := errs.First(checkTested(m), checkNumbers(api.MaxWitness, v[:]...)); e != api.OK {
 		return 0, e
 	}
 	value := coherencyOf(m).value(v)

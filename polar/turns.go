@@ -2,6 +2,7 @@ package polar
 
 import (
 	"etalon/api"
+	"etalon/errs"
 	"etalon/whole"
 )
 
@@ -32,7 +33,7 @@ func rotation(t api.PolarTurn) api.JonesMatrix {
 
 // Turned returns a Jones matrix, turned.
 func Turned(m api.JonesMatrix, t api.PolarTurn) (api.JonesMatrix, api.Errno) {
-	if e := firstOf(CheckJones(m), CheckTurn(t)); e != api.OK {
+	if e := errs.First(CheckJones(m), CheckTurn(t)); e != api.OK {
 		return api.JonesMatrix{}, e
 	}
 	return resultingMatrix(turned(m, t))
@@ -54,7 +55,7 @@ func Polariser(t api.PolarTurn) (api.JonesMatrix, api.Errno) {
 
 // Plate returns the plate with a phase at a turn.
 func Plate(phase, t api.PolarTurn) (api.JonesMatrix, api.Errno) {
-	if e := firstOf(CheckTurn(phase), CheckTurn(t)); e != api.OK {
+	if e := errs.First(CheckTurn(phase), CheckTurn(t)); e != api.OK {
 		return api.JonesMatrix{}, e
 	}
 	along := api.JonesMatrix{whole.Complex(phase.R, 0), 0, 0, whole.Complex(phase.P, phase.Q)}

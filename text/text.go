@@ -36,3 +36,19 @@ func Number(s string, digits int) (int, bool) {
 	}
 	return n, true
 }
+
+// Numbers reads words as numbers of at most so many digits; it says whether there are as many words, and all are ones.
+// Otherwise some of the numbers may be read already.
+func Numbers(words []string, digits int, numbers ...*int) bool {
+	if len(words) != len(numbers) {
+		return false
+	}
+	for i, word := range words {
+		n, ok := Number(word, digits)
+		if !ok {
+			return false
+		}
+		*numbers[i] = n
+	}
+	return true
+}

@@ -49,3 +49,19 @@ func TestNumber(t *testing.T) {
 		t.Errorf("no int: %d, %v", n, ok)
 	}
 }
+
+// Words are as many numbers, or none of them count.
+func TestNumbers(t *testing.T) {
+	var x, y int
+	if !text.Numbers([]string{"-12", "345"}, 3, &x, &y) || x != -12 || y != 345 {
+		t.Errorf("%d and %d", x, y)
+	}
+	if !text.Numbers(nil, 3) {
+		t.Error("no words are no numbers")
+	}
+	for _, words := range [][]string{nil, {"1"}, {"1", "2", "3"}, {"1", "1234"}, {"a", "1"}, {"1", ""}, {"1", "02"}, {"-0", "1"}} {
+		if text.Numbers(words, 3, &x, &y) {
+			t.Errorf("%q", words)
+		}
+	}
+}

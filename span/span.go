@@ -1,0 +1,45 @@
+// Package span calculates with ranges. Several chapters use it.
+package span
+
+import (
+	"etalon/api"
+	"etalon/whole"
+)
+
+// Check checks a range whose ends may be at most most in size.
+func Check(r api.Range, most int) api.Errno {
+	if !whole.Sized(r.Lo, most) || !whole.Sized(r.Hi, most) {
+		return api.ErrRange
+	}
+	if r.Lo > r.Hi {
+		return api.ErrOrder
+	}
+	return api.OK
+}
+
+// Quotient returns x / d (d other than 0), rounded down, and rounded up.
+func Quotient(x, d int) api.Range {
+	if d < 0 {
+		x, d = -x, -d
+	}
+	return api.Range{Lo: whole.Lower(x, 1, d), Hi: whole.Upper(x, 1, d)}
+}
+
+// Hull returns the least range that has all numbers of ranges.
+func Hull(first api.Range, others ...api.Range) api.Range {
+	for _, r := range others {
+		first = api.Range{Lo: min(first.Lo, r.Lo), Hi: max(first.Hi, r.Hi)}
+	}
+	return first
+}
+
+// Common returns the numbers that ranges have in common, and whether there are any.
+func Common(first api.Range, others ...api.Range) (api.Range, bool) {
+	for _, r := range others {
+		first = api.Range{Lo: max(first.Lo, r.Lo), Hi: min(first.Hi, r.Hi)}
+	}
+	if first.Lo > first.Hi {
+		return api.Range{}, false
+	}
+	return first, true
+}

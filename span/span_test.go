@@ -1,0 +1,92 @@
+package span_test
+
+import (
+	"math"
+	"math/big"
+	"math/rand/v2"
+	"testing"
+
+	"etalon/api"
+	"etalon/span"
+)
+
+func of(lo, hi int) api.Range { return api.Range{Lo: lo, Hi: hi} }
+
+// Sizes of both ends are looked at ahead of their order.
+func TestCheck(t *testing.T) {
+	for r, want := range map[api.Range]api.Errno{
+		of(0, 0): api.OK, of(-5, 5): api.OK, of(5, 5): api.OK, of(-5, -5): api.OK, of(-5, -4): api.OK,
+		of(-6, 5): api.ErrRange, of(-5, 6): api.ErrRange, of(6, 7): api.ErrRange, of(-7, -6): api.ErrRange,
+		of(math.MinInt, math.MaxInt): api.ErrRange, of(math.MaxInt, math.MinInt): api.ErrRange, of(0, math.MinInt): api.ErrRange,
+		of(6, 5): api.ErrRange, of(-5, -6): api.ErrRange, of(1, 0): api.ErrOrder, of(5, -5): api.ErrOrder, of(-4, -5): api.ErrOrder,
+	} {
+		if e := span.Check(r, 5); e != want {
+			t.Errorf("%v: %d; want %d", r, e, want)
+		}
+	}
+}
+
+// Quotients are rounded down and up, also by numbers below 0.
+func TestQuotient(t *testing.T) {
+	for _, x := range []struct {
+		x, d int
+		want api.Range
+	}{
+		{0, 3, of(0, 0)}, {0, -3, of(0, 0)}, {6, 3, of(2, 2)}, {-6, 3, of(-2, -2)}, {6, -3, of(-2, -2)}, {-6, -3, of(2, 2)},
+		{7, 3, of(2, 3)}, {-7, 3, of(-3, -2)}, {7, -3, of(-3, -2)}, {-7, -3, of(2, 3)}, {1, 2, of(0, 1)}, {1, -2, of(-1, 0)},
+	} {
+		if got := span.Quotient(x.x, x.d); got != x.want {
+			t.Errorf("%d / %d: %v; want %v", x.x, x.d, got, x.want)
+		}
+	}
+	r := rand.New(rand.NewPCG(1, 6))
+	for range 20000 {
+		x, d := r.IntN(1<<62)>>r.IntN(62), 1+r.IntN(1<<61)>>r.IntN(61)
+		if r.IntN(2) == 0 {
+			x = -x
+		}
+		if r.IntN(2) == 0 {
+			d = -d
+		}
+		down, rest := new(big.Int).DivMod(big.NewInt(int64(x)), big.NewInt(int64(d)), new(big.Int))
+		if d < 0 && rest.Sign() != 0 {
+			// DivMod leaves what is not below 0: by a number below 0 it rounds up.
+			down.Sub(down, big.NewInt(1))
+		}
+		up := new(big.Int).Set(down)
+		if rest.Sign() != 0 {
+			up.Add(up, big.NewInt(1))
+		}
+		if got := span.Quotient(x, d); got != of(int(down.Int64()), int(up.Int64())) {
+			t.Errorf("%d / %d: %v; want %v to %v", x, d, got, down, up)
+		}
+	}
+}
+
+// A hull has all ranges; what they have in common may be a single number, or none.
+func TestHullAndCommon(t *testing.T) {
+	for _, x := range []struct {
+		first  api.Range
+		others []api.Range
+		hull   api.Range
+		common api.Range
+		there  bool
+	}{
+		{of(1, 4), nil, of(1, 4), of(1, 4), true},
+		{of(1, 4), []api.Range{of(2, 3)}, of(1, 4), of(2, 3), true},
+		{of(2, 3), []api.Range{of(1, 4)}, of(1, 4), of(2, 3), true},
+		{of(-1, 4), []api.Range{of(4, 6)}, of(-1, 6), of(4, 4), true},
+		{of(5, 6), []api.Range{of(1, 4)}, of(1, 6), of(0, 0), false},
+		{of(-9, -5), []api.Range{of(-4, 4)}, of(-9, 4), of(0, 0), false},
+		{of(0, 9), []api.Range{of(2, 8), of(-5, 3), of(3, 20)}, of(-5, 20), of(3, 3), true},
+		{of(0, 9), []api.Range{of(0, 1), of(2, 3), of(0, 9)}, of(0, 9), of(0, 0), false},
+		{of(math.MinInt, 0), []api.Range{of(0, math.MaxInt)}, of(math.MinInt, math.MaxInt), of(0, 0), true},
+	} {
+		if hull := span.Hull(x.first, x.others...); hull != x.hull {
+			t.Errorf("hull of %v and %v: %v", x.first, x.others, hull)
+		}
+		if common, there := span.Common(x.first, x.others...); common != x.common || there != x.there {
+			t.Errorf("common to %v and %v: %v, %v", x.first, x.others, common, there)
+		}
+	}
+}
