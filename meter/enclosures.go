@@ -36,11 +36,6 @@ func square(r api.Range) api.Range {
 	return api.Range{Lo: min(lo, hi), Hi: max(lo, hi)}
 }
 
-// atEnds returns the hull of what a function makes of either end of one enclosure, and either end of another one.
-func atEnds(a, b api.Range, of func(x, y int) api.Range) api.Range {
-	return span.Hull(of(a.Lo, b.Lo), of(a.Lo, b.Hi), of(a.Hi, b.Lo), of(a.Hi, b.Hi))
-}
-
 // cut returns an enclosure with ends from -One to One; it must not lie beyond them.
 func cut(r api.Range) (api.Range, api.Errno) {
 	if r.Lo > api.One || r.Hi < -api.One {

@@ -16,8 +16,8 @@ func Ratios(x api.MeterSums) ([2]api.Range, api.Errno) {
 		return [2]api.Range{}, api.ErrZero
 	}
 	twice := func(part, all int) api.Range { return span.Quotient(2*part*api.One, all) }
-	cos, e := cut(atEnds(x.Cos, x.All, twice))
-	sin, f := cut(atEnds(x.Sin, x.All, twice))
+	cos, e := cut(span.AtEnds(x.Cos, x.All, twice))
+	sin, f := cut(span.AtEnds(x.Sin, x.All, twice))
 	if e := errs.First(e, f); e != api.OK {
 		return [2]api.Range{}, e
 	}
@@ -60,7 +60,7 @@ func cosine(t api.PolarTurn, ratio api.Range) api.Range {
 
 // sine returns C, or S, by a ratio of Sin, and by N.
 func sine(t api.PolarTurn, ratio, n api.Range) api.Range {
-	return atEnds(ratio, n, func(y, n int) api.Range {
+	return span.AtEnds(ratio, n, func(y, n int) api.Range {
 		return span.Quotient(y*(t.R*api.One-n*t.P), t.Q*api.One)
 	})
 }

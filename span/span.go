@@ -33,6 +33,11 @@ func Hull(first api.Range, others ...api.Range) api.Range {
 	return first
 }
 
+// AtEnds returns the hull of what a function makes of either end of one range, and either end of another one.
+func AtEnds(a, b api.Range, of func(x, y int) api.Range) api.Range {
+	return Hull(of(a.Lo, b.Lo), of(a.Lo, b.Hi), of(a.Hi, b.Lo), of(a.Hi, b.Hi))
+}
+
 // Common returns the numbers that ranges have in common, and whether there are any.
 func Common(first api.Range, others ...api.Range) (api.Range, bool) {
 	for _, r := range others {

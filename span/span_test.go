@@ -90,3 +90,36 @@ func TestHullAndCommon(t *testing.T) {
 		}
 	}
 }
+
+// What is least or greatest may stand at any two ends, and each end is asked.
+func TestAtEnds(t *testing.T) {
+	for _, x := range []struct {
+		a, b, want api.Range
+	}{
+		{of(6, 7), of(2, 3), of(2, 4)},
+		{of(-7, -6), of(2, 3), of(-4, -2)},
+		{of(-7, 7), of(2, 3), of(-4, 4)},
+		{of(-7, 1), of(2, 3), of(-4, 1)},
+		{of(-1, 7), of(2, 3), of(-1, 4)},
+		{of(6, 7), of(-3, -2), of(-4, -2)},
+		{of(6, 6), of(3, 3), of(2, 2)},
+		{of(7, 7), of(3, 3), of(2, 3)},
+		{of(0, 0), of(1, 9), of(0, 0)},
+	} {
+		if got := span.AtEnds(x.a, x.b, span.Quotient); got != x.want {
+			t.Errorf("%v by %v: %v; want %v", x.a, x.b, got, x.want)
+		}
+	}
+	// Of a function that is great at one pair of ends alone, whichever it is.
+	for i, pair := range [4][2]int{{1, 5}, {1, 7}, {3, 5}, {3, 7}} {
+		got := span.AtEnds(of(1, 3), of(5, 7), func(x, y int) api.Range {
+			if [2]int{x, y} == pair {
+				return of(-i-1, i+2)
+			}
+			return of(0, 1)
+		})
+		if got != of(-i-1, i+2) {
+			t.Errorf("at %v: %v", pair, got)
+		}
+	}
+}
