@@ -20,7 +20,7 @@ func CheckBall(b api.Ball) api.Errno {
 
 // OfRange returns the ball of the real numbers of a range, in parts of One.
 func OfRange(r api.Range) (api.Ball, api.Errno) {
-	if e := span.Check(r, api.MaxBall); e != api.OK {
+	if e := span.Check(r, -api.MaxBall, api.MaxBall); e != api.OK {
 		return api.Ball{}, e
 	}
 	middle := whole.Lower(r.Lo+r.Hi, 1, 2)

@@ -42,7 +42,7 @@ func (d disc) root() disc {
 
 // RealRoot returns the ball of the roots of the real numbers of a range.
 func RealRoot(r api.Range) (api.Ball, api.Errno) {
-	if e := span.Check(r, api.MaxBall); e != api.OK {
+	if e := span.Check(r, -api.MaxBall, api.MaxBall); e != api.OK {
 		return api.Ball{}, e
 	}
 	switch {

@@ -59,7 +59,7 @@ func bisector(from, to centre) centre {
 
 // Arc returns the ball of an arc.
 func Arc(r api.Range) (api.Ball, api.Errno) {
-	if e := span.Check(r, api.MostParts); e != api.OK {
+	if e := span.Check(r, -api.MostParts, api.MostParts); e != api.OK {
 		return api.Ball{}, e
 	}
 	return arc(r)

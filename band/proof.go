@@ -2,7 +2,7 @@ package band
 
 import (
 	"etalon/api"
-	"etalon/whole"
+	"etalon/span"
 )
 
 // AnswerAt returns whether a demand is kept (AnswerYes) or broken (AnswerNo) on a piece.
@@ -11,18 +11,13 @@ func AnswerAt(t api.BandTask, demand int, x api.BandPiece) (int, api.Errno) {
 	if e != api.OK {
 		return 0, e
 	}
-	if !endsWithin(x.Wave, j.Wave) || !endsWithin(x.Sine, j.Sine) {
+	if !span.Within(x.Wave, j.Wave.Lo, j.Wave.Hi) || !span.Within(x.Sine, j.Sine.Lo, j.Sine.Hi) {
 		return 0, api.ErrRange
 	}
 	if x.Wave.Lo > x.Wave.Hi || x.Sine.Lo > x.Sine.Hi {
 		return 0, api.ErrOrder
 	}
 	return j.answer(x), api.OK
-}
-
-// endsWithin says whether both ends of a range, which may stand the other way round, are within another one.
-func endsWithin(r, all api.Range) bool {
-	return whole.Within(r.Lo, all.Lo, all.Hi) && whole.Within(r.Hi, all.Lo, all.Hi)
 }
 
 // CheckPoint accepts a point that refutes its demand.

@@ -57,12 +57,10 @@ func Between(g api.Glass, waves api.Range) ([2]api.Range, api.Errno) {
 
 // checkWaves checks a range of wavelengths of a material.
 func checkWaves(m material, waves api.Range) api.Errno {
-	switch {
-	case !whole.Within(waves.Lo, api.LeastWave, api.MaxWave) || !whole.Within(waves.Hi, api.LeastWave, api.MaxWave):
-		return api.ErrRange
-	case waves.Lo > waves.Hi:
-		return api.ErrOrder
-	case !m.covers(waves.Lo) || !m.covers(waves.Hi):
+	if e := span.Check(waves, api.LeastWave, api.MaxWave); e != api.OK {
+		return e
+	}
+	if !m.covers(waves.Lo) || !m.covers(waves.Hi) {
 		return api.ErrNone
 	}
 	return api.OK

@@ -10,7 +10,8 @@ import (
 
 // CheckSums returns the first error of sums.
 func CheckSums(x api.MeterSums) api.Errno {
-	return errs.First(span.Check(x.All, api.MaxSum), span.Check(x.Cos, api.MaxSum), span.Check(x.Sin, api.MaxSum))
+	const most = api.MaxSum
+	return errs.First(span.Check(x.All, -most, most), span.Check(x.Cos, -most, most), span.Check(x.Sin, -most, most))
 }
 
 // CheckMatrix returns the error of a calibration.

@@ -6,9 +6,14 @@ import (
 	"etalon/whole"
 )
 
-// Check checks a range whose ends may be at most most in size.
-func Check(r api.Range, most int) api.Errno {
-	if !whole.Sized(r.Lo, most) || !whole.Sized(r.Hi, most) {
+// Within says whether both ends of a range, which may stand the other way round, are from least to most.
+func Within(r api.Range, least, most int) bool {
+	return whole.Within(r.Lo, least, most) && whole.Within(r.Hi, least, most)
+}
+
+// Check checks a range whose ends are to be from least to most.
+func Check(r api.Range, least, most int) api.Errno {
+	if !Within(r, least, most) {
 		return api.ErrRange
 	}
 	if r.Lo > r.Hi {

@@ -12,7 +12,7 @@ import (
 
 func of(lo, hi int) api.Range { return api.Range{Lo: lo, Hi: hi} }
 
-// Sizes of both ends are looked at ahead of their order.
+// Both ends are looked at ahead of their order.
 func TestCheck(t *testing.T) {
 	for r, want := range map[api.Range]api.Errno{
 		of(0, 0): api.OK, of(-5, 5): api.OK, of(5, 5): api.OK, of(-5, -5): api.OK, of(-5, -4): api.OK,
@@ -20,8 +20,30 @@ func TestCheck(t *testing.T) {
 		of(math.MinInt, math.MaxInt): api.ErrRange, of(math.MaxInt, math.MinInt): api.ErrRange, of(0, math.MinInt): api.ErrRange,
 		of(6, 5): api.ErrRange, of(-5, -6): api.ErrRange, of(1, 0): api.ErrOrder, of(5, -5): api.ErrOrder, of(-4, -5): api.ErrOrder,
 	} {
-		if e := span.Check(r, 5); e != want {
+		if e := span.Check(r, -5, 5); e != want {
 			t.Errorf("%v: %d; want %d", r, e, want)
+		}
+	}
+	for r, want := range map[api.Range]api.Errno{
+		of(3, 3): api.OK, of(3, 9): api.OK, of(9, 9): api.OK, of(4, 8): api.OK, of(4, 3): api.ErrOrder, of(9, 3): api.ErrOrder,
+		of(2, 9): api.ErrRange, of(3, 10): api.ErrRange, of(3, 2): api.ErrRange, of(10, 9): api.ErrRange, of(0, 1): api.ErrRange,
+	} {
+		if e := span.Check(r, 3, 9); e != want {
+			t.Errorf("%v from 3 to 9: %d; want %d", r, e, want)
+		}
+	}
+}
+
+// Both ends are looked at, whichever is the greater one.
+func TestWithin(t *testing.T) {
+	for _, r := range []api.Range{of(3, 9), of(9, 3), of(3, 3), of(9, 9), of(5, 6), of(6, 5)} {
+		if !span.Within(r, 3, 9) {
+			t.Errorf("%v is from 3 to 9", r)
+		}
+	}
+	for _, r := range []api.Range{of(2, 9), of(9, 2), of(3, 10), of(10, 3), of(0, 1), of(-9, -3), of(math.MinInt, 5), of(5, math.MaxInt)} {
+		if span.Within(r, 3, 9) {
+			t.Errorf("%v is not from 3 to 9", r)
 		}
 	}
 }

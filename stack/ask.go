@@ -5,6 +5,7 @@ import (
 	"slices"
 
 	"etalon/api"
+	"etalon/span"
 	"etalon/whole"
 )
 
@@ -33,13 +34,13 @@ func CheckAsk(a api.StackAsk) (int, api.Errno) {
 // checkLight checks what an ask says ahead of its layers.
 func checkLight(a api.StackAsk) api.Errno {
 	switch {
-	case !whole.Within(a.Index, api.LeastIndex, api.MaxIndex) || !between(a.Sine, 0, mostSine):
+	case !whole.Within(a.Index, api.LeastIndex, api.MaxIndex) || !span.Within(a.Sine, 0, mostSine):
 		return api.ErrRange
 	case a.Sine.Lo > a.Sine.Hi:
 		return api.ErrOrder
 	case a.Polar != api.PolarS && a.Polar != api.PolarP:
 		return api.ErrKind
-	case !between(a.Wave, api.LeastWave, api.MaxWave):
+	case !span.Within(a.Wave, api.LeastWave, api.MaxWave):
 		return api.ErrRange
 	case a.Wave.Lo > a.Wave.Hi:
 		return api.ErrOrder
@@ -48,18 +49,13 @@ func checkLight(a api.StackAsk) api.Errno {
 }
 
 func checkBox(x api.LayerBox) api.Errno {
-	if !between(x.Index, api.LeastIndex, api.MaxIndex) || !between(x.Thick, 0, api.MaxThick) || !whole.Within(x.Loss, 0, api.MaxIndex) {
+	if !span.Within(x.Index, api.LeastIndex, api.MaxIndex) || !span.Within(x.Thick, 0, api.MaxThick) || !whole.Within(x.Loss, 0, api.MaxIndex) {
 		return api.ErrRange
 	}
 	if x.Index.Lo > x.Index.Hi || x.Thick.Lo > x.Thick.Hi {
 		return api.ErrOrder
 	}
 	return api.OK
-}
-
-// between says whether both ends of a range are from least to most.
-func between(r api.Range, least, most int) bool {
-	return whole.Within(r.Lo, least, most) && whole.Within(r.Hi, least, most)
 }
 
 // OtherSide returns the ask from the other side.
@@ -75,7 +71,7 @@ func OtherSide(a api.StackAsk) (api.StackAsk, api.Errno) {
 		return api.StackAsk{}, api.ErrUnit
 	}
 	sine := api.Range{Lo: lo / a.On.Index, Hi: hi / a.On.Index}
-	if !between(sine, 0, mostSine) {
+	if !span.Within(sine, 0, mostSine) {
 		return api.StackAsk{}, api.ErrRange
 	}
 	layers := slices.Clone(a.Layers)

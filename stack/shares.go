@@ -2,6 +2,7 @@ package stack
 
 import (
 	"etalon/api"
+	"etalon/span"
 	"etalon/whole"
 )
 
@@ -82,15 +83,7 @@ func CheckSlab(x api.StackSlab) api.Errno {
 	return checkShare(x.Inner)
 }
 
-func checkShare(r api.Range) api.Errno {
-	if !between(r, 0, api.One) {
-		return api.ErrRange
-	}
-	if r.Lo > r.Hi {
-		return api.ErrOrder
-	}
-	return api.OK
-}
+func checkShare(r api.Range) api.Errno { return span.Check(r, 0, api.One) }
 
 // Slab returns the shares of a thick slab.
 func Slab(x api.StackSlab) (api.StackShares, api.Errno) {
